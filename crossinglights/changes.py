@@ -13,12 +13,10 @@ def check_stage(crossing, streams):
         raise NotStage()
 
 
-def check_stages(crossing, stages):
-    """Raise BadNumber unless there are one to six stages, then NotStage unless all are stages."""
+def check_count(stages):
+    """Raise BadNumber unless there are one to six stages."""
     if not 1 <= len(stages) <= MOST_STAGES:
         raise BadNumber(len(stages))
-    for stage in stages:
-        check_stage(crossing, stage)
 
 
 def change(crossing, before, after):
@@ -33,13 +31,13 @@ def change(crossing, before, after):
 
 def lost(crossing, stages):
     """Return the sum of the changes from each stage to the next one and from the last to the first."""
-    check_stages(crossing, stages)
+    check_count(stages)
     return sum([change(crossing, stages[place - 1], stage) for place, stage in enumerate(stages)])
 
 
 def least_lost(crossing, stages):
     """Return the least number that an order of the stages loses, the first one first, and its places."""
-    check_stages(crossing, stages)
+    check_count(stages)
     found = []
     for tail in arrangements(list(range(1, len(stages))), len(stages) - 1):
         places = [0, *tail]

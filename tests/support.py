@@ -6,6 +6,7 @@ import unittest
 
 from crossinglights.beats import Beats
 from crossinglights.crossings import Crossing
+from crossinglights.nets import Net
 
 NAMES = ["a", "b", "c", "d", "e", "f"]
 
@@ -61,3 +62,28 @@ def all_beats(length):
     for many in range(length + 1):
         for members in itertools.combinations(range(length), many):
             yield Beats(length, members)
+
+
+def random_net(rng, length, nodes, ties, least=0, most=60):
+    """A net with so many ties, each with least to most beats; without ties if there are no two nodes."""
+    found = []
+    for _ in range(ties if nodes > 1 else 0):
+        first, second = rng.sample(range(nodes), 2)
+        many = rng.randint(least, min(most, length))
+        found.append((first, second, Beats(length, rng.sample(range(length), many))))
+    return Net(length, nodes, found)
+
+
+def all_settings(net):
+    """All settings of a net, ascending."""
+    return itertools.product(range(net.length), repeat=net.nodes)
+
+
+def keeps(net, setting):
+    """Return True if the setting keeps the net."""
+    return all((setting[b] - setting[a]) % net.length in list(beats) for a, b, beats in net.ties)
+
+
+def is_based(net, setting):
+    """Return True if the setting gives 0 to the least node of each piece."""
+    return all(setting[piece[0]] == 0 for piece in net.pieces())
