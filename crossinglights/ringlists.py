@@ -17,19 +17,20 @@ def is_lesser_way(steps):
     return steps[0][0] < steps[-1][0]
 
 
+def longer_paths(paths, ties):
+    """Return all paths of one step more, as triples of the nodes before, the steps, and the node at the end."""
+    return [((*visited, node), (*steps, step), end)
+            for visited, steps, node in paths for step, end in steps_from(node, ties)]
+
+
 def rings_from(start, ties):
     """Return the rings of different ties of which this is the least node, the lesser way round of each."""
     found = []
-    paths = [((start,), ())]
+    paths = [((), (), start)]
     while len(paths) > 0:
-        longer = []
-        for visited, steps in paths:
-            for step, end in steps_from(visited[-1], ties):
-                if end == start and is_lesser_way((*steps, step)):
-                    found.append((*steps, step))
-                if end > start and end not in visited:
-                    longer.append(((*visited, end), (*steps, step)))
-        paths = longer
+        grown = longer_paths(paths, ties)
+        found = found + [steps for _, steps, end in grown if end == start and is_lesser_way(steps)]
+        paths = [path for path in grown if path[2] > start and path[2] not in path[0]]
     return found
 
 
