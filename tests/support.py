@@ -7,6 +7,7 @@ import unittest
 from crossinglights.beats import Beats
 from crossinglights.crossings import Crossing
 from crossinglights.nets import Net
+from crossinglights.rates import Rate
 
 NAMES = ["a", "b", "c", "d", "e", "f"]
 
@@ -87,3 +88,63 @@ def keeps(net, setting):
 def is_based(net, setting):
     """Return True if the setting gives 0 to the least node of each piece."""
     return all(setting[piece[0]] == 0 for piece in net.pieces())
+
+
+ALL_RATES = [Rate(burst, num, den) for burst in (1, 2, 3) for den in range(1, 7) for num in range(1, den + 1)]
+
+
+def is_let(rate, row):
+    """The credit of point [31], step by step."""
+    full = rate.burst * rate.den + rate.num - 1
+    credit = full
+    for came in row:
+        if came and credit < rate.den:
+            return False
+        credit = min(full, credit - came * rate.den + rate.num)
+    return True
+
+
+def credit_after(rate, row):
+    """The credit after a row that is let."""
+    full = rate.burst * rate.den + rate.num - 1
+    credit = full
+    for came in row:
+        credit = min(full, credit - came * rate.den + rate.num)
+    return credit
+
+
+def some_flows(seed, count, lengths=(1, 2, 3, 4, 5, 6)):
+    """Rates with green beats, about half of which do not grow."""
+    rng = random.Random(seed)
+    for _ in range(count):
+        length = rng.choice(lengths)
+        yield rng.choice(ALL_RATES), Beats(length, rng.sample(range(length), rng.randint(0, length)))
+
+
+def grows(rate, green):
+    """Return True if more vehicles can come than leave in the long run."""
+    return rate.num * green.length > len(list(green)) * rate.den
+
+
+def simulated(green, begin, row, start=0):
+    """Point [33] with a list of vehicles: the queue after each beat, and the vehicles that left."""
+    queue = ["first"] * start
+    told = []
+    for place, came in enumerate(row):
+        queue = queue + [place] * came
+        left = 1 if queue and (begin + place) % green.length in list(green) else 0
+        queue = queue[left:]
+        told.append((len(queue), left))
+    return told
+
+
+def reached(starts, following):
+    """All states that can be reached from the starts."""
+    known = set(starts)
+    pending = list(starts)
+    while pending:
+        for state in following(pending.pop()):
+            if state not in known:
+                known.add(state)
+                pending.append(state)
+    return known

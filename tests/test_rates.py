@@ -4,20 +4,7 @@ import itertools
 
 from crossinglights.errors import BadCredit, BadNumber, BadRate, NoCredit
 from crossinglights.rates import Rate
-from tests.support import Case
-
-ALL_RATES = [Rate(burst, num, den) for burst in (1, 2, 3) for den in range(1, 7) for num in range(1, den + 1)]
-
-
-def wanted_lets(rate, row):
-    """The credit of point [31], step by step."""
-    full = rate.burst * rate.den + rate.num - 1
-    credit = full
-    for came in row:
-        if came and credit < rate.den:
-            return False
-        credit = min(full, credit - came * rate.den + rate.num)
-    return True
+from tests.support import ALL_RATES, Case, is_let
 
 
 class MakingTest(Case):
@@ -61,7 +48,7 @@ class CreditTest(Case):
     def test_lets(self):
         for rate in ALL_RATES:
             for row in itertools.product((0, 1), repeat=7):
-                self.assertIs(rate.lets(row), wanted_lets(rate, row))
+                self.assertIs(rate.lets(row), is_let(rate, row))
             self.assertIs(rate.lets([]), True)
 
 
@@ -71,18 +58,18 @@ class GreatestTest(Case):
     def test_greatest(self):
         for rate in ALL_RATES:
             for beats in range(8):
-                rows = [row for row in itertools.product((0, 1), repeat=beats) if wanted_lets(rate, row)]
+                rows = [row for row in itertools.product((0, 1), repeat=beats) if is_let(rate, row)]
                 self.assertEqual(rate.greatest(beats), max(sum(row) for row in rows))
 
     def test_greedy(self):
         for rate in ALL_RATES:
             row = rate.greedy(40)
-            self.assertTrue(wanted_lets(rate, row))
+            self.assertTrue(is_let(rate, row))
             for beats in range(41):
                 self.assertEqual(rate.greedy(beats), row[:beats])
                 self.assertEqual(sum(row[:beats]), rate.greatest(beats))
                 if beats < 40 and row[beats] == 0:
-                    self.assertFalse(wanted_lets(rate, row[:beats] + [1]))
+                    self.assertFalse(is_let(rate, row[:beats] + [1]))
 
     def test_rows_that_are_let(self):
         for rate in ALL_RATES[::4]:
