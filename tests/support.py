@@ -5,9 +5,12 @@ import random
 import unittest
 
 from crossinglights.beats import Beats
+from crossinglights.books import Book
 from crossinglights.crossings import Crossing
 from crossinglights.nets import Net
+from crossinglights.phases import Phase
 from crossinglights.rates import Rate
+from crossinglights.sites import Site
 
 NAMES = ["a", "b", "c", "d", "e", "f"]
 
@@ -148,3 +151,112 @@ def reached(starts, following):
                 known.add(state)
                 pending.append(state)
     return known
+
+
+def parts_of_streams(count):
+    """All sets of streams, as lists."""
+    return [[s for s in range(count) if number >> s & 1] for number in range(2 ** count)]
+
+
+def random_phase(rng, count, room):
+    """A phase that needs at most so many beats."""
+    least = rng.randint(1, min(room, 3))
+    most = rng.randint(least, min(room, least + 2))
+    pick = [rng.sample(range(count), rng.randint(0, min(2, count))) for _ in range(3)]
+    calls = pick[2] if rng.random() < 0.6 else []
+    return Phase(pick[0], least=least, most=most, pause=rng.randint(0, min(2, room - most)), holds=pick[1],
+                 calls=calls, yields=rng.random() < 0.3)
+
+
+def random_book(rng, crossing, length):
+    """A book whose phases fill the round or leave some of it to the main phase."""
+    main = Phase(rng.sample(range(len(crossing)), rng.randint(0, 2 if len(crossing) > 1 else 1)),
+                 least=rng.randint(1, min(2, length)))
+    room = length - main.least
+    pause = rng.randint(0, min(2, room))
+    main = Phase(main.green, least=main.least, pause=pause)
+    room -= pause
+    phases = []
+    while room > 0 and rng.random() < 0.85:
+        phases.append(random_phase(rng, len(crossing), room))
+        room -= phases[-1].most + phases[-1].pause
+    return Book(crossing, length, main, phases)
+
+
+def random_books(seed, count, streams=(1, 2, 3), lengths=(2, 3, 5, 6, 8)):
+    """Random books of random crossings."""
+    rng = random.Random(seed)
+    for _ in range(count):
+        yield random_book(rng, random_crossing(rng, rng.choice(streams), 3), rng.choice(lengths))
+
+
+def wanted_lights(book, lights, came, waiting, bus):
+    """Point [43] for proper lights, read line by line."""
+    beat, number, count = lights
+    phases = [book.main, *book.phases]
+    came, waiting = set(came), set(waiting)
+
+    def urged(k):
+        return bus is not None and bus in phases[k].green
+
+    def barred(k):
+        return phases[k].yields and bus is not None and not urged(k)
+
+    def wanted(k):
+        return not barred(k) and (not phases[k].calls or bool(waiting & set(phases[k].calls)) or urged(k))
+
+    def held(k):
+        return not barred(k) and (urged(k) or bool(came & set(phases[k].holds)))
+
+    later = 0 if beat == book.length - 1 else beat + 1
+    sides = range(1, len(phases))
+    if count < -1:
+        return (later, number, count + 1)
+    if number == 0 and count == 0 and not (beat == book.length - 1 and any(wanted(k) for k in sides)):
+        return (later, 0, 0)
+    if number > 0 and count >= 0:
+        if count + 1 < phases[number].least or (count + 1 < phases[number].most and held(number)):
+            return (later, number, count + 1)
+    if count >= 0 and phases[number].pause > 0:
+        return (later, number, -phases[number].pause)
+    return (later, min([k for k in sides if k > number and wanted(k)], default=0), 0)
+
+
+def proper_lights(book):
+    """All proper lights of a book."""
+    for beat in range(book.length):
+        for number, phase in enumerate([book.main, *book.phases]):
+            for count in range(-phase.pause, phase.most if number else 1):
+                yield (beat, number, count)
+
+
+def wanted_successors(book, lights, call=None, buses=True):
+    """All lights that can follow, with all sets of streams and all buses."""
+    count = len(book.crossing)
+    asking = [None, *range(count)] if buses else [None]
+    return {wanted_lights(book, lights, came, waiting, bus) for came in parts_of_streams(count)
+            for waiting in parts_of_streams(count) if call is None or call in waiting for bus in asking}
+
+
+def wanted_quiet(book):
+    """The lights of a round in which nothing comes."""
+    lights, found = (book.length - 1, 0, 0), []
+    for _ in range(book.length):
+        lights = wanted_lights(book, lights, (), (), None)
+        found.append(lights)
+    return found
+
+
+def is_shown(book, lights, stream):
+    """Return True if the lights show the stream."""
+    return lights[2] >= 0 and stream in [book.main, *book.phases][lights[1]].green
+
+
+def small_book(count=2, length=5, **more):
+    """A book with a main phase for stream 0 and perhaps more."""
+    return Book(crossing_of(count), length, Phase([0]), **{"phases": [], **more})
+
+
+def road_site(*lanes, length=4, phases=()):
+    """A site with these lanes and no rivals."""
+    return Site(Book(crossing_of(len(lanes)), length, Phase([0]), list(phases)), list(lanes))
