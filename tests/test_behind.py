@@ -120,6 +120,13 @@ class DepthBehindTest(Case):
             self.assert_fails(BadNumber, {"number": capacity}, good_shifts, rate, growing, good, capacity)
             self.assert_fails(BadNumber, {"number": capacity}, good_shifts, rate, good, good, capacity)
 
+    def test_each_answer_is_new(self):
+        args = (Rate(1, 1, 4), Beats(4, [2]), Beats(4, [1]))
+        for shift in (1, 3):
+            row = list(depth_behind(*args, shift)[2])
+            depth_behind(*args, shift)[2].append(7)
+            self.assertEqual(depth_behind(*args, shift)[2], row)
+
     def test_growing_is_a_growth_of_the_first_depth(self):
         rate = Rate(1, 2, 3)
         for first in all_beats(4):
