@@ -19,3 +19,11 @@ def arrangements(items, many):
         for tail in arrangements(others, many - 1):
             found.append((item,) + tail)
     return found
+
+
+def products(rows):
+    """Return all tuples with one entry of each row; ascending if the rows are."""
+    found = [()]
+    for row in rows:
+        found = [(*chosen, entry) for chosen in found for entry in row]
+    return found

@@ -74,6 +74,18 @@ def changed_lane(lane, values):
     return Road(capacity, rate=values.get("rate", lane.rate), bus=values.get("bus", lane.bus))
 
 
+def check_site(town, number):
+    """Raise UnknownSite unless the town has a site with this number."""
+    if not 0 <= number < len(town.sites):
+        raise UnknownSite(number)
+
+
+def check_lane(town, number):
+    """Raise UnknownLane unless the town has a lane with this number."""
+    if not 0 <= number < len(town):
+        raise UnknownLane(number)
+
+
 def is_held_by(book, stream):
     """Return True if a phase of the book has the stream among its holds."""
     return any([stream in phase.holds for phase in book.phases])
@@ -103,16 +115,14 @@ class Town:
 
     def lane_number(self, site, stream):
         """Return the number of the lane of a stream of a site."""
-        if not 0 <= site < len(self.sites):
-            raise UnknownSite(site)
+        check_site(self, site)
         if not 0 <= stream < len(self.sites[site].lanes):
             raise UnknownStream(stream)
         return self._pairs.index((site, stream))
 
     def pair(self, number):
         """Return the pair of the site and the stream of a lane."""
-        if not 0 <= number < len(self._pairs):
-            raise UnknownLane(number)
+        check_lane(self, number)
         return self._pairs[number]
 
     def lane(self, number):
