@@ -313,3 +313,48 @@ def walked(town, start, most=100000):
         if len(rows) > most:
             return None
     return rows, None if broken is None else (broken[1], tuple(broken[2]))
+
+
+def front_lines(rng, length, names):
+    """The lines of a site from which streets can start."""
+    greens = rng.randint(1, length - 1)
+    rates = [f"{rng.choice([1, 1, 2])} 1/{rng.choice([length, length, length + 1])}" for _ in names]
+    return ["site 0", *[f"stream {name} road {rng.choice([1, 2, 9])} rate {rate}" for name, rate in zip(names, rates)],
+            f"main {greens} 0 : {rng.choice(names)}",
+            f"phase {length - greens} {length - greens} 0 : {' '.join(names)}"]
+
+
+def back_lines(rng, length, foot):
+    """The lines of a site at which streets can end, perhaps with a foot lane."""
+    lines = ["site 0", *[f"stream {name} road {rng.choice([0, 0, 1, 1, 2])}" for name in "cd"]]
+    if foot:
+        return [*lines, "stream f foot 12", "main 1 0 : c d", "phase 1 1 0 : f ? f",
+                f"phase {length - 2} {length - 2} 0 : {rng.choice(['c', 'd', 'c d'])}"]
+    greens = rng.randint(1, length - 1)
+    return [*lines, f"main {greens} 0 : {rng.choice(['c', 'c d'])}",
+            f"phase {length - greens} {length - greens} 0 :{rng.choice([' d', ' c d', ''])}"]
+
+
+def tiered_town(rng):
+    """A tiered town: one street or two between two sites, or two streets between three sites."""
+    length, kind = rng.choice((3, 3, 4)), rng.randrange(4)
+    travels = [rng.randint(1, 3), rng.randint(1, 3)]
+    if kind == 0:
+        lines = [*front_lines(rng, length, "a"), *back_lines(rng, length, rng.random() < 0.5),
+                 f"street 0 a 1 c {travels[0]}"]
+    elif kind == 1:
+        lines = [*back_lines(rng, length, False), *front_lines(rng, length, "ab"), f"street 1 a 0 c {travels[0]}",
+                 f"street 1 b 0 d {travels[1]}"]
+    elif kind == 2:
+        lines = [*front_lines(rng, length, "ab"), *back_lines(rng, length, False), *back_lines(rng, length, False),
+                 f"street 0 a 1 c {travels[0]}", f"street 0 b 2 d {travels[1]}"]
+    else:
+        lines = [*front_lines(rng, length, "a"), *back_lines(rng, length, False), *front_lines(rng, length, "b"),
+                 f"street 0 a 1 c {travels[0]}", f"street 2 b 1 d {travels[1]}"]
+    return town_of([f"round {length}", *lines])
+
+
+# Three streets with the good differences 0 1, 1 2 and 0 2: every two of them go together, but not all three.
+CASES = ["round 3", "site 0", *[f"stream {name} road 2 rate 1 1/3" for name in "abc"], "main 2 0 :",
+         "phase 1 1 0 : a b c", "site 0", *[f"stream {name} road 0" for name in "def"], "main 1 0 :",
+         "phase 2 2 0 : d e f", "street 0 a 1 d 1", "street 0 b 1 e 2", "street 0 c 1 f 3"]
