@@ -1,9 +1,9 @@
 """Desks: towns that run live."""
 
-from crossinglights.errors import BadNumber, NothingToRedo, NothingToUndo, UnknownLane, UnknownName
+from crossinglights.errors import NothingToRedo, NothingToUndo, UnknownLane, UnknownName
 from crossinglights.moments import state_of
 from crossinglights.names import is_name
-from crossinglights.places import first_strange
+from crossinglights.places import check_number, first_strange
 from crossinglights.risks import breach_from
 from crossinglights.rowtext import row_text
 from crossinglights.spots import BUS
@@ -15,18 +15,6 @@ from crossinglights.walks import check_most
 MOST_MEMORY = 200
 MOST_WAIT = 60
 MOST_ROW = 200
-
-
-def check_memory(number):
-    """Raise BadNumber unless a desk can remember so many deeds."""
-    if not 0 <= number <= MOST_MEMORY:
-        raise BadNumber(number)
-
-
-def check_count(number, most):
-    """Raise BadNumber unless the number is from 1 to most."""
-    if not 1 <= number <= most:
-        raise BadNumber(number)
 
 
 def first_standing(town):
@@ -70,7 +58,7 @@ class Desk:
     """A town that runs live: its standing, marks of standings, and deeds that can be taken back."""
 
     def __init__(self, town, *, memory=50, most=500):
-        check_memory(memory)
+        check_number(memory, 0, MOST_MEMORY)
         check_most(most)
         self.town = town
         self._most = most
@@ -139,13 +127,13 @@ class Desk:
 
     def wait(self, beats):
         """So many beats in which nothing comes."""
-        check_count(beats, MOST_WAIT)
+        check_number(beats, 1, MOST_WAIT)
         nothing = (0,) * len(self.town)
         self._do(f"wait {beats}", standing_after(self.town, self._standing, [nothing] * beats))
 
     def follow(self, row):
         """The beats of a row of comings."""
-        check_count(len(row), MOST_ROW)
+        check_number(len(row), 1, MOST_ROW)
         self._do("follow " + row_text(row), standing_after(self.town, self._standing, row))
 
     def back(self, name):
@@ -186,7 +174,7 @@ class Desk:
 
     def remember(self, number):
         """Change the greatest number of deeds that can be taken back."""
-        check_memory(number)
+        check_number(number, 0, MOST_MEMORY)
         self._memory = number
         self._forget()
 

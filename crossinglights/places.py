@@ -1,4 +1,12 @@
-"""The least places at which lists that were passed are wrong."""
+"""What is wrong with numbers and lists that were passed."""
+
+from crossinglights.errors import BadNumber
+
+
+def check_number(number, low, high):
+    """Raise BadNumber unless the number is from low to high."""
+    if not low <= number <= high:
+        raise BadNumber(number)
 
 
 def first_wrong(entries, count, low, high):

@@ -1,6 +1,7 @@
 """The settings of a net that give 0 to the least node of each piece."""
 
 from crossinglights.errors import TooMany
+from crossinglights.listings import products
 
 MOST_SETTINGS = 5000
 
@@ -18,11 +19,7 @@ def based_settings(net):
         count = count * net.length
     if count > MOST_SETTINGS:
         raise TooMany(count)
-    found = [()]
-    for node in range(net.nodes):
-        beats = [0] if node in least else list(range(net.length))
-        found = [(*setting, beat) for setting in found for beat in beats]
-    return found
+    return products([[0] if node in least else list(range(net.length)) for node in range(net.nodes)])
 
 
 def based(net, setting):

@@ -1,14 +1,14 @@
 """All that can follow from one moment on without a break."""
 
-from crossinglights.errors import BadNumber, TooMany
+from crossinglights.errors import TooMany
+from crossinglights.places import check_number
 
 MOST_STATES = 5000
 
 
 def check_most(most):
     """Raise BadNumber unless so many states can be asked for at the most."""
-    if not 1 <= most <= MOST_STATES:
-        raise BadNumber(most)
+    check_number(most, 1, MOST_STATES)
 
 
 def way_to(before, place):
