@@ -18,7 +18,7 @@ def lane_comings(lane, spot):
     """Return the ascending list of what can come to the lane from outside in a beat."""
     if lane.foot:
         return [0, 1]
-    _, _, age, credit = spot
+    age, credit = spot[2:]
     if lane.rate is None or credit < lane.rate.den:
         return [0]
     return [0, 1, BUS] if has_buses(lane) and age == 0 else [0, 1]
@@ -42,7 +42,7 @@ def bus_age(bound, age, coming, ahead):
 
 def bus_ahead(spot, coming, gone):
     """Return how many vehicles stand before the bus of a lane after a beat, NO_BUS if there is none."""
-    count, ahead, _, _ = spot
+    count, ahead = spot[:2]
     before = count if coming == BUS else ahead
     # A bus that has nobody before it is the vehicle that leaves, and one less than 0 is NO_BUS.
     return NO_BUS if before == NO_BUS else before - gone
@@ -50,8 +50,7 @@ def bus_ahead(spot, coming, gone):
 
 def foot_after(spot, coming, green):
     """Return the spot of a foot lane after a beat."""
-    _, _, age, _ = spot
-    return (0, NO_BUS, foot_age(age, coming, green), 0)
+    return (0, NO_BUS, foot_age(spot[2], coming, green), 0)
 
 
 def road_after(lane, spot, coming, arrived, gone):
@@ -65,7 +64,7 @@ def road_after(lane, spot, coming, arrived, gone):
 
 def is_late(lane, spot):
     """Return True if a call or a bus waits longer on the lane than its bound."""
-    _, ahead, age, _ = spot
+    ahead, age = spot[1:3]
     return age > lane.bound and (lane.foot or ahead != NO_BUS)
 
 
